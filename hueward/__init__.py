@@ -1,0 +1,1 @@
+"""Hueward: right or caught, whatever is struck."""

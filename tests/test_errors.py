@@ -1,0 +1,99 @@
+"""The errors: [5] and the interface."""
+
+import inspect
+import unittest
+
+import hueward
+from hueward import errors
+
+FROM_MESSAGES = (
+    "BadProgram BadInputs BadVotes BadCode BadSteps BadHue BadAddress BadNumber BadPaper BadPlace BadNode BadTable "
+    "BadSize BadLength BadArray BadName BadIndex BadNew BadOrder TooLarge BadOther BadWish BadSlots BadMost "
+    "BadCheckpoint BadMany NotEven BadLabels TooMany BadThing BadHues BadWishes BadWidths BadStruck BadStep BadRank "
+    "NotSchedule Ended Full NotCaught NothingDone BadMoment"
+).split()
+FROM_VALUES = {
+    "NoPart": ("part",),
+    "BadText": ("line", "column"),
+    "BadStrikes": ("at",),
+    "BadCodeText": ("line",),
+    "NoPaper": ("address",),
+    "OffLabels": ("step",),
+    "BadStrikesText": ("line",),
+    "NotShown": ("doubt",),
+    "Unclear": ("many",),
+    "NotKept": ("name",),
+}
+
+
+class Errors(unittest.TestCase):
+
+    def test_all_stand_directly_below_hue_error(self):
+        self.assertEqual(errors.HueError.__bases__, (ValueError,))
+        for name in FROM_MESSAGES + list(FROM_VALUES):
+            error = getattr(errors, name)
+            self.assertEqual(error.__bases__, (errors.HueError,), name)
+            self.assertEqual(error.__module__, "hueward.errors")
+
+    def test_there_are_no_others(self):
+        found = [name for name, value in vars(errors).items() if inspect.isclass(value)]
+        self.assertEqual(sorted(found), sorted(FROM_MESSAGES + list(FROM_VALUES) + ["HueError"]))
+
+    def test_made_from_a_message(self):
+        for name in ["HueError"] + FROM_MESSAGES:
+            error = getattr(errors, name)("why it is so")
+            self.assertEqual(str(error), "why it is so")
+            with self.assertRaises(ValueError):
+                raise error
+
+    def test_made_from_values(self):
+        for name, fields in FROM_VALUES.items():
+            values = [["any value", at] for at in range(len(fields))]
+            by_position = getattr(errors, name)(*values)
+            by_name = getattr(errors, name)(**dict(zip(fields, values)))
+            for field, value in zip(fields, values):
+                self.assertIs(getattr(by_position, field), value)
+                self.assertIs(getattr(by_name, field), value)
+            with self.assertRaises(errors.HueError):
+                raise by_name
+
+    def test_the_package_itself_defines_nothing(self):
+        own = [name for name, value in vars(hueward).items() if not name.startswith("__") and not inspect.ismodule(value)]
+        self.assertEqual(own, [])
+
+
+INTERFACE = {
+    "programs": {
+        "is_name": "value", "is_program": "value", "part_names": "program", "nodes": "program part",
+        "node_at": "program place", "depth_of": "program place", "with_node": "program place node",
+        "runs_of": "program part", "ports_of": "program part", "renamed": "program table", "resized": "program size",
+    },
+    "progtexts": {
+        "program_text": "program", "spot_of": "program place", "program_of": "text", "completed": "text",
+    },
+    "meaning": {"Run": "program inputs", "source_row": "program inputs steps"},
+}
+RUN_METHODS = {
+    "go": "self steps", "reach": "self length steps", "cells": "self array", "set_local": "self part x number",
+    "set_cell": "self array index number", "copy": "self",
+}
+
+
+class Interface(unittest.TestCase):
+
+    def test_names_and_parameters(self):
+        for module, functions in INTERFACE.items():
+            file = __import__("hueward." + module, fromlist=["x"])
+            for name, params in functions.items():
+                value = getattr(file, name)
+                self.assertEqual(value.__module__, "hueward." + module)
+                self.assertEqual(" ".join(inspect.signature(value).parameters), params)
+
+    def test_methods_of_run(self):
+        from hueward.meaning import Run
+        for name, params in RUN_METHODS.items():
+            self.assertEqual(" ".join(inspect.signature(vars(Run)[name]).parameters), params)
+
+
+if __name__ == "__main__":
+    unittest.main()
