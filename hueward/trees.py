@@ -27,7 +27,6 @@ SHAPES = {
     "run": ("function", "arguments"),
 }
 STATEMENTS = ("let", "put", "if", "while", "show", "take", "give", "stop", "mark")
-WORDS = ("plus", "minus", "times", "rest", "less", "same")
 EXPRESSIONS = ("number", "local", "cell", "plus", "minus", "times", "rest", "less", "same", "run")
 
 

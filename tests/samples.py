@@ -214,3 +214,73 @@ class Maker:
 def some_programs(many, most=20, tests=True):
     """So many programs, made at random, always the same ones."""
     return [Maker(seed, most, tests).program() for seed in range(many)]
+
+
+class Crowder(Maker):
+    """Makes programs whose parts go up to the greatest count of nodes and the greatest depth.
+
+    The room is taken by each node as soon as it must come.
+    """
+
+    def part(self, is_main):
+        self.is_main = is_main
+        self.room = self.chance.choice((120, 120, 119, 40, 5))
+        return self.body(1, 1)
+
+    def body(self, depth, often=0.7):
+        found = []
+        while self.room >= 1 and depth <= 10 and self.chance.random() < often:
+            found.append(self.statement(depth))
+        return tuple(found)
+
+    def statement(self, depth):
+        words = ["stop", "take"] + ["mark"] * self.is_main
+        if depth < 10 and self.room >= 2:
+            words += ["let", "let", "show", "if", "if", "if", "while", "while"] + ["give"] * (not self.is_main)
+        if depth < 10 and self.room >= 3 and self.arrays:
+            words += ["put", "put"]
+        word = self.chance.choice(words)
+        self.room -= 3 if word == "put" else 1 if word in ("stop", "take", "mark") else 2
+        return self.filled(word, depth)
+
+    def filled(self, word, depth):
+        if word == "stop" or word == "mark":
+            return (word,)
+        if word == "take":
+            return (word, self.local())
+        if word == "put":
+            return (word, self.chance.choice(self.arrays), self.expression(depth + 1), self.expression(depth + 1))
+        value = self.expression(depth + 1)
+        if word == "let":
+            return (word, self.local(), value)
+        if word == "show":
+            return (word, self.chance.randint(0, 5), value)
+        if word == "give":
+            return (word, value)
+        if word == "while":
+            return (word, value, self.body(depth + 1))
+        return (word, value, self.body(depth + 1), self.body(depth + 1, 0.5))
+
+    def expression(self, depth):
+        chance = self.chance
+        words = [name for name, many in self.runnable.items() if many == 0 or depth < 10 and self.room >= many]
+        if depth < 10 and self.room >= 2:
+            words += ["two", "two", "two"]
+        if depth < 10 and self.room >= 1 and self.arrays:
+            words.append("cell")
+        if not words or chance.random() < 0.3:
+            return self.leaf()
+        word = chance.choice(words)
+        if word == "two":
+            self.room -= 2
+            return (chance.choice(WORDS), self.expression(depth + 1), self.expression(depth + 1))
+        if word == "cell":
+            self.room -= 1
+            return ("cell", chance.choice(self.arrays), self.expression(depth + 1))
+        self.room -= self.runnable[word]
+        return ("run", word, tuple([self.expression(depth + 1) for _ in range(self.runnable[word])]))
+
+
+def crowded_programs(many):
+    """So many programs at the limits of what a part may hold, always the same ones."""
+    return [Crowder(seed).program() for seed in range(many)]

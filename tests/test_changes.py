@@ -118,10 +118,12 @@ class Renaming(unittest.TestCase):
         )
 
     def test_arrays_and_functions_may_change_their_names(self):
-        program = (10, (("a", (1,)),), (("f", (), (("give", ("cell", "a", ("local", "a"))),)),), (("show", 0, ("run", "f", ())),))
+        program = (10, (("a", (1,)),), (("f", (), (("give", ("cell", "a", ("local", "a"))),)),),
+                   (("show", 0, ("run", "f", ())),))
         self.assertEqual(
             renamed(program, {"a": "f", "f": "a"}),
-            (10, (("f", (1,)),), (("a", (), (("give", ("cell", "f", ("local", "f"))),)),), (("show", 0, ("run", "a", ())),)),
+            (10, (("f", (1,)),), (("a", (), (("give", ("cell", "f", ("local", "f"))),)),),
+             (("show", 0, ("run", "a", ())),)),
         )
 
     def test_joined_names(self):
@@ -143,7 +145,8 @@ class Renaming(unittest.TestCase):
             self.assertRaises(BadTable, renamed, FULL, {"a": "q", "n": bad})
 
     def test_no_tables(self):
-        for table in (None, 0, True, "ab", "", [], (), ["a", "b"], [("a", "b")], (("a", "b"),), {"a": ["b"]}, {"a": {}}):
+        for table in (None, 0, True, "ab", "", [], (), ["a", "b"], [("a", "b")], (("a", "b"),), {"a": ["b"]},
+                      {"a": {}}):
             self.assertRaises(BadTable, renamed, FULL, table)
 
     def test_names_that_do_not_occur(self):

@@ -63,7 +63,8 @@ class Order(unittest.TestCase):
 class Parameters(unittest.TestCase):
 
     def test_inputs(self):
-        for bad in (None, "", "12", {}, {1: 2}, 5, (True,), [False], [-1], [10000], [1, 2, None], ["1"], [0] * 401, [[1]]):
+        for bad in (None, "", "12", {}, {1: 2}, 5, (True,), [False], [-1], [10000], [1, 2, None], ["1"], [0] * 401,
+                    [[1]]):
             self.assertRaises(BadInputs, Run, FULL, bad)
             self.assertRaises(BadInputs, source_row, FULL, bad, 0)
         for good in ([], (), [0, 9999], (0, 9999), [1] * 400, (9999,) * 400):

@@ -58,7 +58,8 @@ class Errors(unittest.TestCase):
                 raise by_name
 
     def test_the_package_itself_defines_nothing(self):
-        own = [name for name, value in vars(hueward).items() if not name.startswith("__") and not inspect.ismodule(value)]
+        values = vars(hueward)
+        own = [name for name in values if not name.startswith("__") and not inspect.ismodule(values[name])]
         self.assertEqual(own, [])
 
 

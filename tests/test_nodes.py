@@ -10,8 +10,8 @@ ONE = ("number", 1)
 TWO = ("number", 2)
 BAD_PLACES = STRANGE + (
     ("main",), ("main", 0, 0), ("main", -1), ("main", 11), ("main", 12), ("main", "0"), ("main", True), ("main", None),
-    ("g", 0), ("", 0), (None, 0), (["main"], 0), ({}, 0), (0, "main"), ["main", 0], ("f", 5), ("main", 10 ** 99), "main",
-    ("main", (0,)),
+    ("g", 0), ("", 0), (None, 0), (["main"], 0), ({}, 0), (0, "main"), ["main", 0], ("f", 5), ("main", 10 ** 99),
+    "main", ("main", (0,)),
 )
 
 
@@ -95,9 +95,10 @@ class Exchanging(unittest.TestCase):
 
     KINDS = (
         ("let", "q", ONE), ("put", "a", ONE, ("local", "q")), ("if", ONE, (("stop",),), (("stop",), ("stop",))),
-        ("while", ("local", "w"), (("show", 3, ONE),)), ("show", 4, TWO), ("take", "q"), ("give", ONE), ("stop",), ("mark",),
-        ("number", 0), ("local", "q"), ("cell", "a", ONE), ("run", "f", (ONE, TWO)), ("run", "g", ()), ("plus", ONE, TWO),
-        ("minus", ONE, TWO), ("times", ONE, TWO), ("rest", ONE, TWO), ("less", ONE, TWO), ("same", ONE, TWO),
+        ("while", ("local", "w"), (("show", 3, ONE),)), ("show", 4, TWO), ("take", "q"), ("give", ONE),
+        ("stop",), ("mark",), ("number", 0), ("local", "q"), ("cell", "a", ONE), ("run", "f", (ONE, TWO)),
+        ("run", "g", ()), ("plus", ONE, TWO), ("minus", ONE, TWO), ("times", ONE, TWO), ("rest", ONE, TWO),
+        ("less", ONE, TWO), ("same", ONE, TWO),
     )
     STATEMENTS = ("let", "put", "if", "while", "show", "take", "give", "stop", "mark")
 

@@ -7,15 +7,16 @@ from hueward.meaning import source_row
 from hueward.programs import is_name, is_program, nodes
 from tests.samples import FULL, PROGRAM_16, PROGRAM_21, STRANGE, main_only, nested_sums, nested_whiles, some_programs
 
-TEXT_WORDS = ("array", "else", "function", "give", "if", "main", "mark", "rest", "show", "size", "stop", "take", "while")
+TEXT_WORDS = ("array", "else", "function", "give", "if", "main", "mark", "rest", "show", "size", "stop", "take",
+              "while")
 ONE = ("number", 1)
 EXPRESSIONS = (
     ("number", 1), ("local", "x"), ("cell", "a", ONE), ("plus", ONE, ONE), ("minus", ONE, ONE), ("times", ONE, ONE),
     ("rest", ONE, ONE), ("less", ONE, ONE), ("same", ONE, ONE), ("run", "f", (ONE, ONE)),
 )
 STATEMENTS = (
-    ("let", "x", ONE), ("put", "a", ONE, ONE), ("if", ONE, (), ()), ("while", ONE, ()), ("show", 0, ONE), ("take", "x"),
-    ("give", ONE), ("stop",), ("mark",),
+    ("let", "x", ONE), ("put", "a", ONE, ONE), ("if", ONE, (), ()), ("while", ONE, ()), ("show", 0, ONE),
+    ("take", "x"), ("give", ONE), ("stop",), ("mark",),
 )
 WITH_BOTH = {"arrays": [("a", (1, 2))], "functions": [("f", ("x", "y"), ())]}
 
@@ -34,7 +35,8 @@ def in_function(statement):
 class Names(unittest.TestCase):
 
     def test_names(self):
-        for name in ("a", "z", "abcdefgh", "a1234567", "z9", "x0", "plus", "number", "local", "cell", "run", "put", "let"):
+        for name in ("a", "z", "abcdefgh", "a1234567", "z9", "x0", "plus", "number", "local", "cell", "run", "put",
+                     "let"):
             self.assertTrue(is_name(name), name)
 
     def test_words_are_none(self):
@@ -48,8 +50,9 @@ class Names(unittest.TestCase):
             self.assertTrue(is_name(name), name)
 
     def test_others_are_none(self):
-        for value in ("", "1", "1a", "A", "aB", "a_", "_a", "a b", " a", "a ", "a\n", "abcdefghi", "a12345678", "a-", "a.b",
-                      "\u00e9", "a\u00e9", "a\u0661", "\u0430", "a\u00b2", b"a", ("a",), ["a"], None, True, 0, 1, {}, {"a": 1}, 10):
+        for value in ("", "1", "1a", "A", "aB", "a_", "_a", "a b", " a", "a ", "a\n", "abcdefghi", "a12345678", "a-",
+                      "a.b", "\u00e9", "a\u00e9", "a\u0661", "\u0430", "a\u00b2", b"a", ("a",), ["a"], None, True, 0,
+                      1, {}, {"a": 1}, 10):
             self.assertFalse(is_name(value), value)
 
 
@@ -111,14 +114,16 @@ class Functions(unittest.TestCase):
 
     def test_params(self):
         self.assertTrue(is_program((10, (), (("f", ("a", "b", "c", "d"), ()),), ())))
-        for params in (("a", "b", "c", "d", "e"), ("a", "a"), ("a", "b", "a"), ["a"], ("main",), ("A",), (1,), None, "a", (["a"],)):
+        for params in (("a", "b", "c", "d", "e"), ("a", "a"), ("a", "b", "a"), ["a"], ("main",), ("A",), (1,),
+                       None, "a", (["a"],)):
             self.assertFalse(is_program((10, (), (("f", params, ()),), ())), params)
 
     def test_params_may_have_the_names_of_others(self):
         self.assertTrue(is_program((10, (("a", (1,)),), (("f", ("a", "f"), (("let", "a", ("local", "f")),)),), ())))
 
     def test_shapes(self):
-        for function in STRANGE + (("f", ()), ("f", (), (), ()), ["f", (), ()], ("f", (), []), ("f", (), None), (1, (), ())):
+        for function in STRANGE + (("f", ()), ("f", (), (), ()), ["f", (), ()], ("f", (), []), ("f", (), None),
+                                    (1, (), ())):
             self.assertFalse(is_program((10, (), (function,), ())), function)
         for functions in (None, [], [("f", (), ())], {}, "f", 1):
             self.assertFalse(is_program((10, (), functions, ())), functions)
@@ -222,7 +227,8 @@ class Expressions(unittest.TestCase):
             self.assertFalse(in_main(("show", 0, list(expression))), expression)
 
     def test_deep_inside(self):
-        for bad in STRANGE + (("number", 10), ("local", "if"), ("cell", "x", ONE), ("run", "f", (ONE,)), ("stop",), ["number", 1]):
+        for bad in STRANGE + (("number", 10), ("local", "if"), ("cell", "x", ONE), ("run", "f", (ONE,)), ("stop",),
+                              ["number", 1]):
             for outer in (
                 ("cell", "a", bad), ("plus", bad, ONE), ("plus", ONE, bad), ("run", "f", (ONE, bad)),
                 ("less", ONE, ("rest", ONE, ("cell", "a", bad))),
