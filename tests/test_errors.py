@@ -1,5 +1,6 @@
 """The errors: [5] and the interface."""
 
+import ast
 import inspect
 import unittest
 
@@ -89,6 +90,30 @@ class Interface(unittest.TestCase):
                 value = getattr(file, name)
                 self.assertEqual(value.__module__, "hueward." + module)
                 self.assertEqual(" ".join(inspect.signature(value).parameters), params)
+
+    def test_each_module_imports_only_from_those_ahead(self):
+        """Those of the interface stand in this sequence; others are looked through."""
+        sequence = ["errors", "programs", "progtexts", "meaning"]
+        for at, module in enumerate(sequence):
+            reached = self.reached_from(module)
+            self.assertNotIn(module, reached)
+            self.assertEqual([name for name in sequence if name in reached and name not in sequence[:at]], [])
+
+    def reached_from(self, module):
+        """The modules that a module imports from, through others too."""
+        found = []
+        waiting = [module]
+        while waiting:
+            file = __import__("hueward." + waiting.pop(), fromlist=["x"])
+            for node in ast.walk(ast.parse(inspect.getsource(file))):
+                if isinstance(node, (ast.Import, ast.ImportFrom)):
+                    self.assertIsInstance(node, ast.ImportFrom)
+                    self.assertTrue(node.module.startswith("hueward."), "only from modules of the package")
+                    name = node.module[len("hueward."):]
+                    if name not in found:
+                        found.append(name)
+                        waiting.append(name)
+        return found
 
     def test_methods_of_run(self):
         from hueward.meaning import Run
