@@ -11,6 +11,7 @@ ZERO, ONE, TWO, THREE = [("number", number) for number in range(4)]
 X = ("local", "x")
 Y = ("local", "y")
 STOP = ("stop",)
+TAKES = ("takes",)
 
 # Main shows x, and f shows p and gives z; its first running is open behind the fourth step.
 RUN_F = ("show", 0, ("run", "f", (TWO,)))
@@ -264,6 +265,17 @@ class Copies(unittest.TestCase):
         twin.go(100)
         self.assertEqual(moment(twin), moment(run))
 
+    def test_the_sets_of_arrays_and_inputs_go_along(self):
+        program = main_only(("if", Y, (), (("put", "a", ZERO, X), ("take", "x"))), ("show", 0, ("cell", "a", ONE)),
+                            ("take", "z"), arrays=[("a", (1,))])
+        run = gone(program, [4, 5], 6)
+        self.assertEqual(len(run.row), 1)
+        twin = run.copy()
+        twin.go(100)
+        x, y = ("local", "main", "x"), ("local", "main", "y")
+        self.assertEqual(twin.sources, [(y, TAKES), (("array", "a"), x, y), (y, TAKES), ()])
+        self.assertEqual(len(run.sources), 1)
+
     def test_behind_the_end(self):
         run = gone(PROGRAM_21, [17], 100)
         self.assertEqual(moment(run.copy()), moment(run))
@@ -293,6 +305,15 @@ class SettingLocals(unittest.TestCase):
         run.set_local("f", "z", 6)
         run.go(100)
         self.assertEqual([item[2] for item in run.row[:-1]], [9, 6, 8, 2, 0, 8])
+
+    def test_in_one_running_alone(self):
+        show = ("show", 0, X)
+        program = main_only(("let", "y", ("run", "f", ())), show, functions=[("f", (), (show,))])
+        for part, numbers in (("main", [0, 7]), ("f", [7, 0])):
+            run = gone(program, [], 1)
+            run.set_local(part, "x", 7)
+            run.go(100)
+            self.assertEqual([item[2] for item in run.row[:-1]], numbers)
 
     def test_where_no_running_is_open(self):
         run = gone(OPEN, [], 2)

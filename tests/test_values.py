@@ -298,6 +298,13 @@ class Limits(unittest.TestCase):
         self.assertFalse(is_program(main_only(("show", 0, ("run", "f", (runs,))), functions=functions)))
         self.assertTrue(is_program(main_only(*nested_whiles(9, ("show", 0, ("run", "g", ()))), functions=functions)))
 
+    def test_depth_in_functions(self):
+        for depth, fits in ((9, True), (10, True), (11, False)):
+            function = ("f", (), nested_whiles(depth, ("stop",)))
+            self.assertEqual(is_program(main_only(functions=[function])), fits)
+            function = ("f", (), (("give", nested_sums(depth - 1)),))
+            self.assertEqual(is_program(main_only(functions=[function])), fits)
+
     def test_values_nested_deep(self):
         value = ()
         for _ in range(39):
