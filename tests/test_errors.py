@@ -74,11 +74,35 @@ INTERFACE = {
         "program_text": "program", "spot_of": "program place", "program_of": "text", "completed": "text",
     },
     "meaning": {"Run": "program inputs", "source_row": "program inputs steps"},
+    "codes": {
+        "is_votes": "value", "is_code": "value", "hues_of": "code", "is_instruction": "code hue value",
+        "instructions": "code hue", "settles": "code", "is_strikes": "code value",
+    },
+    "codetexts": {"code_text": "code", "code_of": "text"},
+    "machine": {
+        "Machine": "code inputs strikes", "struck": "code inputs strikes steps",
+        "machine_row": "code inputs steps strikes", "first_parting": "code inputs steps", "renumbered": "code order",
+        "strikes_renumbered": "code strikes order",
+    },
+    "flows": {"things": "program", "flows": "program", "reached": "program thing", "chain": "program first last"},
 }
-RUN_METHODS = {
-    "go": "self steps", "reach": "self length steps", "cells": "self array", "set_local": "self part x number",
-    "set_cell": "self array index number", "copy": "self",
+# The modules of the interface in their sequence.
+SEQUENCE = ["errors"] + list(INTERFACE)
+METHODS = {
+    "meaning.Run": {
+        "go": "self steps", "reach": "self length steps", "cells": "self array", "set_local": "self part x number",
+        "set_cell": "self array index number", "copy": "self",
+    },
+    "machine.Machine": {
+        "go": "self steps", "strike": "self hue place new", "registers": "self hue", "cells": "self hue",
+        "own": "self hue address", "copy": "self", "moment": "self",
+    },
 }
+ATTRIBUTES = {
+    "meaning.Run": "row steps state left place wraps sources",
+    "machine.Machine": "row steps state left pointers slots address",
+}
+DEFAULTS = {"machine.Machine": ((),), "machine.machine_row": ((),)}
 
 
 class Interface(unittest.TestCase):
@@ -93,11 +117,10 @@ class Interface(unittest.TestCase):
 
     def test_each_module_imports_only_from_those_ahead(self):
         """Those of the interface stand in this sequence; others are looked through."""
-        sequence = ["errors", "programs", "progtexts", "meaning"]
-        for at, module in enumerate(sequence):
+        for at, module in enumerate(SEQUENCE):
             reached = self.reached_from(module)
             self.assertNotIn(module, reached)
-            self.assertEqual([name for name in sequence if name in reached and name not in sequence[:at]], [])
+            self.assertEqual([name for name in SEQUENCE if name in reached and name not in SEQUENCE[:at]], [])
 
     def reached_from(self, module):
         """The modules that a module imports from, through others too."""
@@ -115,10 +138,31 @@ class Interface(unittest.TestCase):
                         waiting.append(name)
         return found
 
-    def test_methods_of_run(self):
+    def test_methods(self):
+        for name, methods in METHODS.items():
+            own = vars(self.found(name))
+            for method, params in methods.items():
+                self.assertEqual(" ".join(inspect.signature(own[method]).parameters), params)
+
+    def test_attributes_are_there_from_the_beginning(self):
+        from hueward.machine import Machine
         from hueward.meaning import Run
-        for name, params in RUN_METHODS.items():
-            self.assertEqual(" ".join(inspect.signature(vars(Run)[name]).parameters), params)
+        made = {"meaning.Run": Run((2, (), (), ()), []), "machine.Machine": Machine(((1,), 2, (("stop",),), ()), [])}
+        for name, attributes in ATTRIBUTES.items():
+            for attribute in attributes.split():
+                getattr(made[name], attribute)
+
+    def test_defaults(self):
+        for module, functions in INTERFACE.items():
+            for name in functions:
+                signature = inspect.signature(self.found(module + "." + name))
+                found = tuple([one.default for one in signature.parameters.values() if one.default is not one.empty])
+                self.assertEqual(found, DEFAULTS.get(module + "." + name, ()))
+
+    def found(self, name):
+        """What is called so, behind the name of its module."""
+        module, _, inside = name.partition(".")
+        return getattr(__import__("hueward." + module, fromlist=["x"]), inside)
 
 
 if __name__ == "__main__":
