@@ -85,6 +85,17 @@ INTERFACE = {
         "strikes_renumbered": "code strikes order",
     },
     "flows": {"things": "program", "flows": "program", "reached": "program thing", "chain": "program first last"},
+    "widths": {
+        "first_narrow": "program widths", "is_fit": "program hues value", "least_widths": "program hues wishes",
+        "settled_widths": "program widths", "safe_things": "program votes widths struck",
+        "is_whole": "program votes widths struck",
+    },
+    "compiling": {
+        "compiled": "program votes widths", "widened": "code votes", "narrowed": "code hue",
+        "own_steps": "code inputs steps",
+    },
+    "papers": {"joints": "code", "is_paper": "code value", "doubts": "code paper", "is_shown": "code paper"},
+    "papermaking": {"made_paper": "code", "joined": "code other"},
 }
 # The modules of the interface in their sequence.
 SEQUENCE = ["errors"] + list(INTERFACE)
@@ -102,7 +113,7 @@ ATTRIBUTES = {
     "meaning.Run": "row steps state left place wraps sources",
     "machine.Machine": "row steps state left pointers slots address",
 }
-DEFAULTS = {"machine.Machine": ((),), "machine.machine_row": ((),)}
+DEFAULTS = {"machine.Machine": ((),), "machine.machine_row": ((),), "compiling.compiled": (None,)}
 
 
 class Interface(unittest.TestCase):

@@ -7,7 +7,7 @@ from hueward.errors import BadProgram, BadThing
 from hueward.flows import chain, flows, reached, things
 from hueward.progtexts import program_of
 from tests.plain_flows import plain_flows, plain_reached, plain_things
-from tests.samples import FULL, PROGRAM_16, PROGRAM_21, STRANGE, crowded_programs, lines, main_only, some_programs
+from tests.samples import FULL, PROGRAM_16, PROGRAM_21, STRANGE, crowded_programs, lines, some_programs
 
 MAIN = ("part", "main")
 TAKES, LOOPS, END = ("takes",), ("loops",), ("end",)
@@ -248,9 +248,10 @@ class Reached(unittest.TestCase):
     def test_wrong_things(self):
         program = in_main("if x", "  show 1 x", "show 0 x")
         good = things(program)
-        for bad in STRANGE + (["part", "main"], ("part",), ("part", "f"), local("y"), tested(1), tested(False), tested(True),
-                              ("port", 2), ("port", False), ("port", True), ("result", "main"), "takes", ["takes"],
-                              ("takes", 0), ("array", "a"), ("test", "main"), (("takes",),), ("port", [0]), ("port", "0")):
+        for bad in STRANGE + (["part", "main"], ("part",), ("part", "f"), local("y"), tested(1), tested(False),
+                              tested(True), ("port", 2), ("port", False), ("port", True), ("result", "main"), "takes",
+                              ["takes"], ("takes", 0), ("array", "a"), ("test", "main"), (("takes",),), ("port", [0]),
+                              ("port", "0")):
             self.assertRaises(BadThing, reached, program, bad)
             self.assertRaises(BadThing, chain, program, bad, good[0])
             self.assertRaises(BadThing, chain, program, good[0], bad)
