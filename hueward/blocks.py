@@ -36,6 +36,11 @@ def block_starts(inside):
     return starts
 
 
+def labels_in(inside):
+    """The ascending list of the addresses of cells where blocks begin."""
+    return [at for at in sorted(block_starts(inside)) if at < len(inside)]
+
+
 def blocks_of(inside):
     """The list of the blocks of cells: each is a list of the addresses of its cells."""
     starts = block_starts(inside)

@@ -3,7 +3,7 @@
 from hueward.cells import MOST_BANK, MOST_CELLS, MOST_HUES, REGISTERS
 from hueward.cells import bounds_of, fits_cell, fits_instruction, is_settle_cell
 from hueward.checks import MOST_STEPS, is_within
-from hueward.errors import BadCode, BadHue, BadStrikes, BadVotes
+from hueward.errors import BadCode, BadHue, BadNew, BadPlace, BadStrikes, BadVotes
 from hueward.programs import GREATEST_SIZE, LEAST_SIZE
 
 MOST_STRIKES = 400
@@ -113,6 +113,15 @@ def fits_place(code, hue, place, new):
     if place[0] == "code":
         return fits_instruction(bounds_of(code), hue, new)
     return place[0] == "slot" and new is None or is_within(new, 0, code[1] - 1)
+
+
+def check_strike(code, hue, place, new):
+    """BadHue, BadPlace or BadNew unless this can be set at this place of the hue."""
+    check_hue(code, hue)
+    if not is_place(code, hue, place):
+        raise BadPlace("this is no place of the hue")
+    if not fits_place(code, hue, place, new):
+        raise BadNew("this does not fit to the place")
 
 
 def is_strike(code, value):

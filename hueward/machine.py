@@ -2,9 +2,9 @@
 
 from hueward.cells import is_settle_cell
 from hueward.checks import check_inputs, check_steps, is_within
-from hueward.codes import check_code, check_hue, check_strikes, fits_place, has_instruction, is_place
-from hueward.errors import BadAddress, BadNew, BadOrder, BadPlace
-from hueward.works import Works, do_step, do_strike, fetched, go_on, own_of, state_of, twin_of
+from hueward.codes import check_code, check_hue, check_strike, check_strikes, has_instruction
+from hueward.errors import BadAddress, BadOrder
+from hueward.works import Works, do_step, do_strike, fetched, go_on, left_of, moment_of, state_of, twin_of
 
 
 class Machine:
@@ -40,7 +40,7 @@ class Machine:
     @property
     def left(self):
         """The list of the inputs that were not taken."""
-        return self._works.given[self._works.taken:]
+        return left_of(self._works)
 
     @property
     def pointers(self):
@@ -77,35 +77,31 @@ class Machine:
 
     def strike(self, hue, place, new):
         """Sets one thing of a hue at once; this is no step."""
-        check_hue(self._code, hue)
-        if not is_place(self._code, hue, place):
-            raise BadPlace("this is no place of the hue")
-        if not fits_place(self._code, hue, place, new):
-            raise BadNew("this does not fit to the place")
+        check_strike(self._code, hue, place, new)
         do_strike(self._works, hue, place, new)
         self._look()
 
     def copy(self):
         """An independent machine at the same moment, with the strikes that are still to come."""
-        twin = Machine(self._code, [])
-        twin._works = twin_of(self._works)
-        twin._look()
-        return twin
+        return machine_at(self._code, twin_of(self._works))
 
     def moment(self):
         """All of the hues, and the state and the inputs left."""
-        works = self._works
-        found = []
-        for hue in range(len(works.votes)):
-            numbers, bank = state_of(works, hue)
-            found.append((tuple(numbers), tuple(bank), works.heads[hue], works.offers[hue], tuple(own_of(works, hue))))
-        return (tuple(found), (works.word, tuple(self.left)))
+        return moment_of(self._works)
 
     def _look(self):
         """Tells the address anew."""
         self.address = None
         if self._works.word == "running":
             self.address = fetched(self._works)
+
+
+def machine_at(code, works):
+    """A machine with this code that goes on with these works."""
+    machine = Machine(code, [])
+    machine._works = works
+    machine._look()
+    return machine
 
 
 def struck(code, inputs, strikes, steps):

@@ -8,7 +8,8 @@ class Works:
     """Everything of a machine that changes, the code that it began with, and the strikes.
 
     The tape holds the cells of the code; an instruction in it is the own one
-    of its hue. Of the strikes, as many as struck_many tells are done.
+    of its hue. It is a tuple, so that twins share it. Of the strikes, as many
+    as struck_many tells are done.
     """
 
     def __init__(self, code, inputs, strikes):
@@ -16,7 +17,7 @@ class Works:
         self.votes = votes
         self.size = size
         self.first_tape = inside
-        self.tape = list(inside)
+        self.tape = inside
         self.numbers = [[0] * REGISTERS for _ in votes]
         self.banks = [list(bank) for _ in votes]
         self.heads = [0] * len(votes)
@@ -33,7 +34,7 @@ class Works:
 def twin_of(works):
     """Independent works at the same moment, with the strikes that are still to come."""
     twin = Works((works.votes, works.size, works.first_tape, ()), works.given, works.planned)
-    twin.tape = list(works.tape)
+    twin.tape = works.tape
     twin.numbers = [list(numbers) for numbers in works.numbers]
     twin.banks = [list(bank) for bank in works.banks]
     twin.heads = list(works.heads)
@@ -70,6 +71,20 @@ def state_of(works, hue):
 def own_of(works, hue):
     """The list of the own instructions of a hue, by ascending addresses."""
     return [cell for cell in works.tape if cell[0] == hue]
+
+
+def left_of(works):
+    """The list of the inputs that were not taken."""
+    return works.given[works.taken:]
+
+
+def moment_of(works):
+    """All of the hues, and the state and the inputs left."""
+    found = []
+    for hue in range(len(works.votes)):
+        numbers, bank = state_of(works, hue)
+        found.append((tuple(numbers), tuple(bank), works.heads[hue], works.offers[hue], tuple(own_of(works, hue))))
+    return (tuple(found), (works.word, tuple(left_of(works))))
 
 
 def do_set(works, hue, cell):
@@ -171,7 +186,7 @@ def do_mark(works, cell):
     numbers, bank = state
     works.numbers = [list(numbers) for _ in hues]
     works.banks = [list(bank) for _ in hues]
-    works.tape = list(works.first_tape)
+    works.tape = works.first_tape
     empty_slots(works)
     return True
 
@@ -227,7 +242,7 @@ def do_strike(works, hue, place, new):
     elif place[0] == "slot":
         works.offers[hue] = new
     else:
-        works.tape[place[1]] = new
+        works.tape = works.tape[:place[1]] + (new,) + works.tape[place[1] + 1:]
 
 
 def do_coming(works):

@@ -96,8 +96,23 @@ INTERFACE = {
     },
     "papers": {"joints": "code", "is_paper": "code value", "doubts": "code paper", "is_shown": "code paper"},
     "papermaking": {"made_paper": "code", "joined": "code other"},
+    "thresholds": {
+        "struck_hues": "code strikes", "judged": "code inputs strikes steps", "defeat": "code inputs steps",
+        "stall": "code inputs steps", "plan": "told whole", "even_votes": "hues need", "suspects": "slots most",
+    },
+    "marks": {
+        "Kept": "code inputs strikes", "is_checkpoint": "code value", "resumed": "code checkpoint",
+        "most_again": "code inputs many steps", "slowest": "code inputs many steps",
+    },
+    "markplaces": {
+        "is_even": "code", "longest_leg": "code", "with_marks": "code some", "fewest_marks": "code length",
+    },
+    "counts": {
+        "spans": "code inputs steps hue place", "value_ranges": "code inputs steps hue place at",
+        "tally": "code inputs steps hue", "tally_at": "code inputs steps hue place", "worst_strike": "code inputs steps",
+        "longest_delay": "code inputs steps",
+    },
 }
-# The modules of the interface in their sequence.
 SEQUENCE = ["errors"] + list(INTERFACE)
 METHODS = {
     "meaning.Run": {
@@ -108,12 +123,17 @@ METHODS = {
         "go": "self steps", "strike": "self hue place new", "registers": "self hue", "cells": "self hue",
         "own": "self hue address", "copy": "self", "moment": "self",
     },
+    "marks.Kept": {"go": "self steps", "strike": "self hue place new", "copy": "self", "machine": "self"},
 }
 ATTRIBUTES = {
     "meaning.Run": "row steps state left place wraps sources",
     "machine.Machine": "row steps state left pointers slots address",
+    "marks.Kept": "out held state steps left kept legs",
 }
-DEFAULTS = {"machine.Machine": ((),), "machine.machine_row": ((),), "compiling.compiled": (None,)}
+DEFAULTS = {
+    "machine.Machine": ((),), "machine.machine_row": ((),), "compiling.compiled": (None,), "marks.Kept": ((),),
+    "counts.tally": (None,),
+}
 
 
 class Interface(unittest.TestCase):
@@ -157,8 +177,12 @@ class Interface(unittest.TestCase):
 
     def test_attributes_are_there_from_the_beginning(self):
         from hueward.machine import Machine
+        from hueward.marks import Kept
         from hueward.meaning import Run
-        made = {"meaning.Run": Run((2, (), (), ()), []), "machine.Machine": Machine(((1,), 2, (("stop",),), ()), [])}
+        code = ((1,), 2, (("stop",),), ())
+        made = {
+            "meaning.Run": Run((2, (), (), ()), []), "machine.Machine": Machine(code, []), "marks.Kept": Kept(code, []),
+        }
         for name, attributes in ATTRIBUTES.items():
             for attribute in attributes.split():
                 getattr(made[name], attribute)

@@ -6,6 +6,7 @@ import unittest
 from hueward.errors import NoPaper
 from hueward.machine import Machine, first_parting, struck
 from hueward.papermaking import made_paper
+from hueward.thresholds import judged
 from tests.coding import ALL_VOTES, CodeMaker
 from tests.compiling import all_programs, is_beginning, is_instruction_cell, machine_of, made
 from tests.papering import CODE_44, paper_codes
@@ -57,6 +58,8 @@ class FewHues(unittest.TestCase):
             self.seen["wrong"] += not is_beginning(one.row, other.row)
             return
         self.assertEqual(one.row, other.row[:len(one.row)])
+        word = judged(code, inputs, strikes, STEPS)
+        self.assertIn(word, ("same",) if many <= hues - need else ("same", "caught"))
         if one.state != "caught":
             self.assertEqual((one.row, one.state, one.steps), (other.row, other.state, other.steps))
         if many <= hues - need:
