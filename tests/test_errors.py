@@ -112,6 +112,16 @@ INTERFACE = {
         "tally": "code inputs steps hue", "tally_at": "code inputs steps hue place", "worst_strike": "code inputs steps",
         "longest_delay": "code inputs steps",
     },
+    "schedules": {
+        "labels_of": "code", "stretches": "code", "exchangeable": "code", "exchanged": "code address",
+        "in_order": "code", "is_schedule": "code value", "schedules_many": "code", "schedule_rank": "code",
+        "schedule_at": "code rank", "moved_address": "code other address",
+        "moved_strikes": "code inputs strikes other steps", "nearest_exchanges": "code other",
+        "exchanges_to": "code other",
+    },
+    "striketexts": {"strikes_text": "code strikes", "strikes_of": "code text"},
+    "bench": {"Bench": "code paper inputs"},
+    "desk": {"Desk": ""},
 }
 SEQUENCE = ["errors"] + list(INTERFACE)
 METHODS = {
@@ -124,11 +134,19 @@ METHODS = {
         "own": "self hue address", "copy": "self", "moment": "self",
     },
     "marks.Kept": {"go": "self steps", "strike": "self hue place new", "copy": "self", "machine": "self"},
+    "bench.Bench": {
+        "go": "self steps", "strike": "self hue place new", "lead": "self most", "lay": "self code paper",
+        "begin": "self inputs", "keep": "self name", "back": "self name", "undo": "self", "moment": "self",
+        "verdict": "self", "sights": "self", "fits": "self most", "blames": "self most", "row_at": "self at",
+        "copy": "self", "tried": "self task", "__len__": "self", "__eq__": "self other",
+    },
+    "desk.Desk": {"say": "self line"},
 }
 ATTRIBUTES = {
     "meaning.Run": "row steps state left place wraps sources",
     "machine.Machine": "row steps state left pointers slots address",
     "marks.Kept": "out held state steps left kept legs",
+    "bench.Bench": "code paper inputs row state steps left strikes struck kept log",
 }
 DEFAULTS = {
     "machine.Machine": ((),), "machine.machine_row": ((),), "compiling.compiled": (None,), "marks.Kept": ((),),
@@ -176,12 +194,14 @@ class Interface(unittest.TestCase):
                 self.assertEqual(" ".join(inspect.signature(own[method]).parameters), params)
 
     def test_attributes_are_there_from_the_beginning(self):
+        from hueward.bench import Bench
         from hueward.machine import Machine
         from hueward.marks import Kept
         from hueward.meaning import Run
         code = ((1,), 2, (("stop",),), ())
         made = {
             "meaning.Run": Run((2, (), (), ()), []), "machine.Machine": Machine(code, []), "marks.Kept": Kept(code, []),
+            "bench.Bench": Bench(code, {0: []}, []),
         }
         for name, attributes in ATTRIBUTES.items():
             for attribute in attributes.split():
