@@ -89,6 +89,7 @@ def led_alone(scene, band):
     """The fate of the runs of a band without columns."""
     works = band.works
     while works.done < scene.limit:
+        before = works.heads[0]
         do_step(works)
         if works.word == "caught":
             return caught_end(scene, band.right, works.done)
@@ -99,7 +100,8 @@ def led_alone(scene, band):
                 return WRONG
             works.shown = []
             band.right = one_more(scene, band.right)
-        if is_round(band):
+        # Whatever goes round goes back somewhere.
+        if works.heads[0] <= before and is_round(band):
             break
     return running_end(scene, band.right)
 

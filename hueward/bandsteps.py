@@ -5,11 +5,11 @@ the fates of the other runs into found, a dict from new values.
 """
 
 from hueward.bands import WRONG, caught_end, column_of, indexes_by, is_right_item, one_more, part_of
-from hueward.bands import put_column, stopped_end, works_as
+from hueward.bands import put_column, works_as
 from hueward.cells import is_settle_cell
 from hueward.spots import cells_reached, each_of, slot_spots, spot_set
 from hueward.words import WORDS, worths
-from hueward.works import agreed_of, do_step, fetched, state_of, twin_of
+from hueward.works import agreed_of, do_step, state_of, twin_of
 
 # What becomes of a run at a settle; one that turns to the goal is right by another whole than one that does not.
 NOT_RIGHT = -2
@@ -27,7 +27,7 @@ def got_column(scene, band, cell):
     """What the runs of a band get by a get; None if all get what the works do."""
     spots = cells_reached(scene.struck_code, cell)
     indexes = band.columns.get(cell[0] * each_of(scene.struck_code) + cell[3])
-    if indexes is None:
+    if indexes is None or len(spots) == 1:
         index = band.works.numbers[cell[0]][cell[3]] % cell[5]
         return band.columns.get(spots[index])
     bank = band.works.banks[cell[0]][cell[4]:cell[4] + cell[5]]
@@ -69,7 +69,7 @@ def put_on(scene, band, cell):
     meant = spots[band.works.numbers[cell[0]][cell[3]] % cell[5]]
     indexes = band.columns.get(first + cell[3])
     target = meant
-    if indexes is not None:
+    if indexes is not None and len(spots) > 1:
         keys = [index % cell[5] for index in indexes]
         if keys.count(keys[0]) < len(keys):
             return [part for one in parted(scene, band, keys) for part in put_on(scene, one, cell)]
@@ -99,9 +99,6 @@ def parted(scene, band, keys):
 
 def row_on(scene, band, cell):
     """The bands behind an instruction."""
-    if not band.columns:
-        do_step(band.works)
-        return [band]
     if cell[1] == "put":
         return put_on(scene, band, cell)
     column = row_column(scene, band, cell)
@@ -253,20 +250,15 @@ def settle_on(scene, band, cell, found):
         if len(scene.struck_code[0]) == 1:
             return mark_alone_on(scene, band)
         return mark_on(scene, band, found)
-    if word == "stop":
-        tell(found, band.news, stopped_end(scene, band.right))
-        return []
+    # It is a goto: ahead of a stop nothing is needed any more, so that no band with columns comes there.
     do_step(band.works)
     return [band]
 
 
 def step_on(scene, band, found):
-    """The bands behind the next step."""
-    at = fetched(band.works)
-    if at is None:
-        tell(found, band.news, caught_end(scene, band.right, band.works.done + 1))
-        return []
-    cell = scene.struck_code[2][at]
+    """The bands behind the next step of a band with columns."""
+    # Behind the last cell nothing is needed any more, so that a band that stands there has no columns.
+    cell = scene.struck_code[2][band.works.heads[0]]
     if is_settle_cell(cell):
         return settle_on(scene, band, cell, found)
     return row_on(scene, band, cell)

@@ -1,9 +1,9 @@
 """Benches, on which a machine is struck and led on, with deeds that can be undone."""
 
 from hueward.checks import MOST_STEPS, check_inputs, check_steps, is_within
-from hueward.codes import MOST_STRIKES, check_code, check_strike
+from hueward.codes import MOST_STRIKES, check_strike
 from hueward.errors import BadMoment, BadName, BadSteps, Ended, Full, NotCaught, NotKept, NotShown, NothingDone, Unclear
-from hueward.papers import check_paper, doubts
+from hueward.papers import doubts
 from hueward.programs import is_name
 from hueward.sightings import blamed, fitting, leading_strikes, sights_of
 from hueward.standings import begun, deed_copy, next_of, paper_copy
@@ -16,8 +16,6 @@ LEAST_CODE = ((1,), 2, (("stop",),), ())
 
 def check_shown(code, paper):
     """BadCode, BadPaper, or NotShown with the first doubt, unless the paper shows the code."""
-    check_code(code)
-    check_paper(code, paper)
     found = doubts(code, paper)
     if found:
         raise NotShown(found[0])
@@ -116,7 +114,7 @@ class Bench:
         if len(self._now.strokes) >= MOST_STRIKES:
             raise Full(f"{MOST_STRIKES} strikes stand")
         self._do(("strike", hue, place, new), next_of(self._now), self._named)
-        self._lay_stroke(hue, place, new, True)
+        self._put_stroke(hue, place, new, True)
 
     def lead(self, most):
         """Takes the caught step back, and gives the hues that differ the one sight that fits."""
@@ -130,7 +128,7 @@ class Bench:
         self._now.works.word = "running"
         self._now.works.done -= 1
         for hue, place, new in told:
-            self._lay_stroke(hue, place, new, False)
+            self._put_stroke(hue, place, new, False)
 
     def lay(self, code, paper):
         """The bench has this code and paper, and the machine begins anew."""
@@ -228,7 +226,7 @@ class Bench:
         self._now = standing
         self._named = named
 
-    def _lay_stroke(self, hue, place, new, is_own):
+    def _put_stroke(self, hue, place, new, is_own):
         """A strike is done, and stands."""
         do_strike(self._now.works, hue, place, new)
         self._now.strokes.append((self._now.works.done, hue, place, new))

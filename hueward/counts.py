@@ -158,16 +158,11 @@ def worst_strike(code, inputs, steps):
     best = (0, 0, 0, 0)
     for spot, first, _, outcomes in spans_told(Survey(scene, all_spots(code))):
         for fate, new in fates_told(code, spot, outcomes).items():
-            # Worse ones are greater, and so are earlier ones.
+            # Worse ones are greater, and so are earlier ones; of one spot the first values come first.
             better = (OUTCOMES.index(word_of(fate)), -first, -spot)
-            if better > best[:3] or better == best[:3] and is_ahead(new, best[3]):
+            if better > best[:3]:
                 best = better + (new,)
     return (OUTCOMES[best[0]], strike_of(code, -best[2], -best[1], best[3]))
-
-
-def is_ahead(new, other):
-    """Whether a value stands ahead of another one."""
-    return other is not None and (new is None or new < other)
 
 
 def longest_delay(code, inputs, steps):

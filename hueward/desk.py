@@ -205,14 +205,14 @@ class Desk:
         try:
             code = code_read(form)
             self._bench = Bench(code, made_paper(code), [])
-        except BadText as wrong:
-            return f"error badtext {wrong.line} {wrong.column}"
-        except BadCodeText as wrong:
-            return f"error badcodetext {wrong.line}"
+        except BadText as wrong_text:
+            return f"error badtext {wrong_text.line} {wrong_text.column}"
+        except BadCodeText as wrong_code:
+            return f"error badcodetext {wrong_code.line}"
         except BadVotes:
             return "error badvotes"
         except TooLarge:
             return "error toolarge"
-        except NoPaper as wrong:
-            return f"error nopaper {wrong.address}"
+        except NoPaper as no_paper:
+            return f"error nopaper {no_paper.address}"
         return DONE

@@ -56,11 +56,6 @@ def goes_on(net, marked, node):
     return [other for other in net.behind[node] if not marked[other]]
 
 
-def tail_of(net, marked, node):
-    """How many cells a leg has behind the cells of a node, if it does not go on in another one."""
-    return int(not net.ends[node] and any([marked[other] for other in net.behind[node]]))
-
-
 def longest_from(net, marked):
     """A dict from nodes to the greatest counts of cells of a leg from there on; those on or ahead of rounds lack.
 
@@ -78,7 +73,8 @@ def longest_from(net, marked):
     while ready:
         node = ready.pop()
         counts = [found[other] for other in goes_on(net, marked, node)]
-        found[node] = net.many[node] + max(counts + [tail_of(net, marked, node)])
+        # A leg that goes on in no other node has the mark ahead of the next one, unless it ends by itself.
+        found[node] = net.many[node] + max(counts + [int(not net.ends[node])])
         for other in ahead[node]:
             open_many[other] -= 1
             if open_many[other] == 0:

@@ -99,9 +99,7 @@ def cells_reached(code, cell):
 
 
 def spot_set(code, cell):
-    """The spot that an instruction sets, a register or the slot; None for a put."""
-    if cell[1] == "put":
-        return None
+    """The spot that an instruction but put sets: a register or the slot."""
     if cell[1] == "offer":
         return (cell[0] + 1) * each_of(code) - 1
     return cell[0] * each_of(code) + cell[2]

@@ -133,9 +133,7 @@ def suspects(slots, most):
         raise BadSlots("slots are a list of wholes and None")
     check_most(most)
     hues = range(len(slots))
-    sets = [unlike_hues(slots, slot) for slot in slots if slot is not None]
-    if len(slots) <= most:
-        sets.append(list(hues))
+    sets = [unlike_hues(slots, slot) for slot in slots if slot is not None] + [list(hues)]
     # Each set that is let holds one of these, so they tell what is in each.
     let = [found for found in sets if len(found) <= most]
     if not let:

@@ -118,6 +118,92 @@ class BesideEach(unittest.TestCase):
                 for steps in (3, 13, 14, 30):
                     self.check((votes,) + code[1:], [2, 1, 1], steps, random.Random(steps))
 
+    def check_cells(self, *cells, votes=(1,), size=10, bank=(), inputs=(), steps=80):
+        """A code made by hand; how many wrong ones there are."""
+        code = coded(*cells, votes=votes, size=size, bank=bank)
+        return self.check(code, list(inputs), steps, random.Random(0))
+
+    def test_puts_at_other_cells(self):
+        """A struck index leads the number astray, and what was at the right cell stays."""
+        for get in ((0, "get", 2, 3, 0, 2), (0, "get", 2, 3, 0, 1)):
+            self.check_cells(
+                (0, "set", 1, 5), (0, "put", 1, 0, 0, 2), get, (0, "offer", 2), ("show", 0, 1), (0, "set", 3, 1),
+                (0, "get", 2, 3, 0, 2), (0, "offer", 2), ("show", 1, 1), ("stop",), bank=(1, 2),
+            )
+            self.check_cells((0, "set", 1, 5), (0, "put", 1, 0, 0, 2), get, (0, "offer", 2), ("show", 0, 1), ("stop",),
+                             bank=(1, 2))
+
+    def test_marks_that_follow_the_struck_hue(self):
+        """Two hues differ; the third one, which is struck, tells which of them all hues become like."""
+        found = self.check_cells(
+            (0, "set", 0, 1), (1, "set", 0, 2), (2, "set", 0, 1), ("mark",), *[(hue, "offer", 0) for hue in range(3)],
+            ("show", 0, 3), ("stop",), votes=(1, 2, 2), bank=(4,),
+        )
+        self.assertGreater(min(found["wrong"], found["caught"]), 0)
+
+    def test_runs_that_are_not_sure_or_not_full(self):
+        """With fewer votes than hues single strikes can still do something."""
+        offers = [(hue, "offer", 0) for hue in range(3)]
+        three = [(hue, "set", 0, 1) for hue in range(3)]
+        found = self.check_cells(*three[:2], (2, "set", 0, 2), *offers, ("show", 0, 3), ("stop",), votes=(1, 2, 2))
+        self.assertGreater(found["caught"], 0)
+        found = self.check_cells(*three, *offers, ("show", 0, 1), ("stop",), votes=(1, 2, 2))
+        self.assertGreater(found["wrong"], 0)
+        found = self.check_cells(*three, (2, "set", 3, 1), ("mark",), *offers, ("show", 0, 3), votes=(1, 2, 2))
+        self.assertGreater(found["caught"], 0)
+        found = self.check_cells(*three, *offers, ("show", 0, 3), *three, votes=(1, 2, 2))
+        self.assertEqual(found["same"], sum(found.values()))
+
+    def test_loops_that_end_at_last(self):
+        """Struck runs that go round, and differ from round to round in a register, a bank cell or the inputs alone."""
+        head = [(0, "offer", 0), ("turn", 3, 1), ("stop",)]
+        tail = [("goto", 4), (0, "offer", 1), ("show", 0, 1), ("stop",)]
+        found = self.check_cells(*head, (0, "set", 2, 1), (0, "plus", 1, 1, 2), (0, "same", 3, 1, 4), (0, "offer", 3),
+                                 ("turn", 9, 1), *tail)
+        self.assertGreater(found["wrong"], 0)
+        found = self.check_cells(
+            *head, (0, "set", 2, 1), (0, "get", 1, 5, 0, 1), (0, "plus", 1, 1, 2), (0, "put", 1, 5, 0, 1),
+            (0, "same", 3, 1, 6), (0, "offer", 3), (0, "set", 1, 0), (0, "set", 3, 0), ("turn", 13, 1), *tail, bank=(0,),
+            steps=150,
+        )
+        self.assertGreater(found["wrong"], 0)
+        found = self.check_cells((0, "offer", 0), ("turn", 3, 1), ("goto", 2), ("take", 5, 1), (0, "offer", 5),
+                                 ("turn", 3, 1), ("stop",), inputs=(5, 5, 5, 5, 5), steps=60)
+        self.assertGreater(found["wrong"], 0)
+
+    def test_runs_that_leave_a_loop_one_by_one(self):
+        """Of those led along together some go round for ever."""
+        found = self.check_cells((0, "offer", 1), ("turn", 3, 1), ("stop",), (0, "times", 1, 1, 1), (0, "set", 2, 6),
+                                 (0, "same", 3, 1, 2), (0, "offer", 3), ("turn", 9, 1), ("goto", 3), (0, "offer", 1),
+                                 ("show", 0, 1), ("stop",), steps=100)
+        self.assertGreater(min(found["wrong"], found["other"]), 0)
+        # Those that leave count down for some rounds, while the first one stays the same.
+        found = self.check_cells(
+            (0, "offer", 1), ("turn", 3, 1), ("stop",), (0, "set", 5, 1), (0, "minus", 1, 1, 5), (0, "set", 6, 4),
+            (0, "times", 1, 1, 6), (0, "less", 7, 4, 1), (0, "minus", 1, 1, 7), (0, "same", 3, 1, 5), (0, "offer", 3),
+            ("turn", 13, 1), ("goto", 7), (0, "offer", 1), ("show", 0, 1), ("stop",), size=20, steps=45,
+        )
+        self.assertGreater(min(found["wrong"], found["other"]), 0)
+
+    def test_what_is_needed_later(self):
+        """Struck values that stay where they are, while others are made of them."""
+        for way in (("goto", 2), ("take", 7, 1), (0, "set", 6, 1), (0, "offer", 5), ("mark",), (1, "set", 0, 1)):
+            for votes in ((1,), (1, 2)):
+                if way[0] == 1 and len(votes) == 1 or way[0] == "goto" and len(votes) == 2:
+                    continue
+                self.check_cells((0, "plus", 1, 0, 2), way, (0, "plus", 4, 0, 1), (0, "offer", 4), ("show", 0, 1),
+                                 ("stop",), votes=votes, steps=20)
+        self.check_cells(
+            (0, "get", 1, 6, 0, 1), (0, "set", 6, 1), (0, "put", 5, 6, 0, 2), (0, "get", 2, 7, 0, 1),
+            (0, "plus", 3, 1, 2), (0, "offer", 3), ("show", 0, 1), ("stop",), bank=(3, 4), steps=20,
+        )
+        self.check_cells(
+            (0, "get", 1, 6, 1, 1), (0, "set", 6, 1), (0, "put", 5, 6, 1, 2), (0, "get", 2, 7, 1, 1),
+            (0, "plus", 3, 1, 2), (0, "offer", 3), ("show", 0, 1), ("stop",), bank=(1, 3, 4), steps=20,
+        )
+        self.check_cells((0, "plus", 1, 0, 2), (0, "put", 5, 6, 0, 2), (0, "plus", 4, 0, 1), (0, "offer", 4),
+                         ("show", 0, 1), ("stop",), bank=(3, 4), steps=20)
+
     def test_caught_at_the_fetch(self):
         for votes in ((1,), (1, 2), (1, 2, 2)):
             hues = range(len(votes))
