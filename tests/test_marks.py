@@ -364,10 +364,9 @@ class Checkpoints(unittest.TestCase):
                     other = resumed(code, kept.kept)
                     whole = Kept(code, [7, 1, 8, 2])
                     whole.go(200)
-                    other.go(200 - kept.steps)
+                    other.go(200)
                     rest = whole.out[len(kept.out):]
-                    self.assertEqual(other.out[:len(rest)], rest[:len(other.out)])
-                    self.assertGreaterEqual(len(other.out), len(rest))
+                    self.assertEqual(other.out[:len(rest)], rest)
                     rows += 1
         self.assertGreater(rows, 50)
 
