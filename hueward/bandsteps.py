@@ -7,7 +7,7 @@ the fates of the other runs into found, a dict from new values.
 from hueward.bands import WRONG, caught_end, column_of, indexes_by, is_right_item, one_more, part_of
 from hueward.bands import put_column, works_as
 from hueward.cells import is_settle_cell
-from hueward.spots import cells_reached, each_of, slot_spots, spot_set
+from hueward.spots import cells_reached, each_of, slot_spots, spot_set, value_at
 from hueward.words import WORDS, worths
 from hueward.works import agreed_of, do_step, state_of, twin_of
 
@@ -109,6 +109,9 @@ def row_on(scene, band, cell):
 
 def agreed_column(scene, band, spots, need):
     """The numbers on which each run of a band agrees at these slots, None where it does not."""
+    parting = [spot for spot in spots if spot in band.columns]
+    if len(parting) == 1:
+        return agreed_with(scene, band, spots, parting[0], need)
     known = {}
     found = []
     columns = [column_of(scene, band, spot) for spot in spots]
@@ -117,6 +120,18 @@ def agreed_column(scene, band, spots, need):
             known[offers] = agreed_of(offers, need)
         found.append(known[offers])
     return found
+
+
+def agreed_with(scene, band, spots, parting, need):
+    """The numbers on which the runs agree at these slots, if they differ in a single one of them."""
+    column = band.columns[parting]
+    if len(spots) == 1:
+        return column
+    others = [value_at(scene.struck_code, band.works, spot) for spot in spots if spot != parting]
+    # Of several slots more than one must be alike, so that a number of its own counts as little as None.
+    none = agreed_of(others, need)
+    known = {number: agreed_of(others + [number], need) for number in others}
+    return [known.get(number, none) for number in column]
 
 
 def settle_keys(scene, band, cell, numbers):
@@ -174,10 +189,11 @@ def bands_behind(scene, band, keys, own, columns, found):
         elif key == NOT_RIGHT:
             tell(found, [band.news[at] for at in chosen], WRONG)
         else:
-            stepped[key].shown = []
+            works = stepped[key]
+            works.shown = []
             part = band
             if len(groups) > 1 or key != own:
-                part = part_of(scene, band, stepped[key], chosen)
+                part = part_of(scene, band, works, chosen)
                 part.on_way = band.on_way and key == own
             going.append(part)
     return going
@@ -228,11 +244,12 @@ def mark_alone_on(scene, band):
 
 def take_on(scene, band, cell, found):
     """The bands behind a take."""
-    do_step(band.works)
-    if not is_right_item(scene, band.right, band.works.shown[0]):
+    works = band.works
+    do_step(works)
+    if not is_right_item(scene, band.right, works.shown[0]):
         tell(found, band.news, WRONG)
         return []
-    band.works.shown = []
+    works.shown = []
     band.right = one_more(scene, band.right)
     for hue in range(cell[2]):
         put_column(scene, band, hue * each_of(scene.struck_code) + cell[1], None)

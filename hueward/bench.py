@@ -125,8 +125,9 @@ class Bench:
         if len(self._now.strokes) + len(told) > MOST_STRIKES:
             raise Full(f"more than {MOST_STRIKES} strikes would stand")
         self._do(("lead", most), next_of(self._now), self._named)
-        self._now.works.word = "running"
-        self._now.works.done -= 1
+        works = self._now.works
+        works.word = "running"
+        works.done -= 1
         for hue, place, new in told:
             self._put_stroke(hue, place, new, False)
 

@@ -103,6 +103,15 @@ def spans_told(survey):
     return found
 
 
+def words_of(code, spot, outcomes):
+    """How many strikes of a spot have each word."""
+    fates = list(outcomes.others.values())
+    found = {word_of(fate): fates.count(fate) for fate in (SAME, OTHER, WRONG)}
+    found["caught"] = len(fates) - sum(list(found.values()))
+    found[word_of(outcomes.most)] += news_many(code, spot) - len(fates)
+    return found
+
+
 def tally_of(code, inputs, steps, spots):
     """How many single strikes of these spots have each outcome."""
     scene = Scene(code, inputs, steps)
@@ -110,12 +119,10 @@ def tally_of(code, inputs, steps, spots):
     for spot in spots:
         found["same"] += scene.many * news_many(code, spot)
     for spot, first, last, outcomes in spans_told(Survey(scene, spots)):
-        words = [word_of(fate) for fate in outcomes.others.values()]
-        words_many = {word: words.count(word) for word in OUTCOMES}
-        words_many[word_of(outcomes.most)] += news_many(code, spot) - len(words)
+        many = words_of(code, spot, outcomes)
         for word in OUTCOMES[1:]:
-            found[word] += words_many[word] * (last - first + 1)
-            found["same"] -= words_many[word] * (last - first + 1)
+            found[word] += many[word] * (last - first + 1)
+            found["same"] -= many[word] * (last - first + 1)
     return found
 
 
@@ -143,8 +150,11 @@ def strike_of(code, spot, step, new):
 
 def fates_told(code, spot, outcomes):
     """A dict from the fates of the strikes of a spot to the first values that have them."""
+    news = news_for(code, spot)
+    if not outcomes.others:
+        return {outcomes.most: news[0]}
     found = {}
-    for new in news_for(code, spot):
+    for new in news:
         found.setdefault(outcomes.others.get(new, outcomes.most), new)
     return found
 

@@ -84,10 +84,11 @@ def outcomes_ahead(survey, spot, step):
 
 def packed(found):
     """The outcomes that a dict tells."""
-    many = {}
-    for fate in found.values():
-        many[fate] = many.get(fate, 0) + 1
-    most = max(list(many), key=lambda fate: many[fate])
+    # The greatest values are often like most of the others.
+    fates = list(found.values())
+    most = fates[-1]
+    if fates.count(most) == len(fates):
+        return Outcomes(most, {})
     return Outcomes(most, {new: fate for new, fate in found.items() if fate != most})
 
 
@@ -137,21 +138,21 @@ def few_outcomes(survey, spot, step):
 def pointer_outcomes(scene, step):
     """The outcomes of strikes at a pointer ahead of a step."""
     code = scene.struck_code
-    works = scene.works_ahead(step)
-    right = len(works.shown)
+    ahead = scene.works_ahead(step)
+    right = len(ahead.shown)
     hues = len(code[0])
     if hues > code[0][-1]:
         return Outcomes(SAME, {})
     if hues > 1:
-        return Outcomes(caught_end(scene, right, step + 1), {works.heads[0]: SAME})
+        return Outcomes(caught_end(scene, right, step + 1), {ahead.heads[0]: SAME})
     found = {}
     for new in range(len(code[2]) + 1):
         found[new] = SAME
-        if new != works.heads[0]:
-            band = band_at(scene, step, each_of(code) - 2, [new])
-            band.works.heads = [new]
-            band.columns = {}
-            found[new] = led_alone(scene, band)
+        if new != ahead.heads[0]:
+            works = twin_of(ahead)
+            works.heads = [new]
+            works.shown = []
+            found[new] = led_alone(scene, Band(works, [new], {}, right, False))
     return packed(found)
 
 
@@ -199,21 +200,32 @@ def look_up(survey, band, found):
         outcomes = outcomes_ahead(survey, spot, band.works.done)
         if outcomes is None:
             continue
-        alone = list(range(len(band.news)))
-        for other in spots:
-            if other != spot:
-                value = value_at(survey.scene.struck_code, band.works, other)
-                alone = [at for at in alone if band.columns[other][at] == value]
-        column = band.columns[spot]
-        for at in alone:
-            found[band.news[at]] = outcomes.others.get(column[at], outcomes.most)
-        keep_others(band, alone)
+        if len(spots) == 1:
+            tell_alone(band, band.columns[spot], outcomes, found)
+            return
+        other = spots[1] if spot == spots[0] else spots[0]
+        values = band.columns[other]
+        right = value_at(survey.scene.struck_code, band.works, other)
+        if right in values:
+            alone = [at for at, value in enumerate(values) if value == right]
+            column = band.columns[spot]
+            for at in alone:
+                found[band.news[at]] = outcomes.others.get(column[at], outcomes.most)
+            keep_others(band, alone)
+
+
+def tell_alone(band, column, outcomes, found):
+    """Tells the fates of all runs of a band, which differ in a single column."""
+    if outcomes.others:
+        others = outcomes.others
+        found.update({new: others.get(value, outcomes.most) for new, value in zip(band.news, column)})
+    else:
+        tell(found, band.news, outcomes.most)
+    band.news = []
 
 
 def keep_others(band, gone):
     """Takes the runs with these ascending indexes out of a band."""
-    if not gone:
-        return
     out = {at: True for at in gone}
     kept = [at for at in range(len(band.news)) if at not in out]
     band.news = [band.news[at] for at in kept]
