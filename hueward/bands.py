@@ -85,25 +85,42 @@ def is_round(band):
     return False
 
 
+def key_of(scene, band):
+    """All that tells how the runs of a band without columns go on."""
+    works = band.works
+    at = works.heads[0]
+    values = tuple([value_at(scene.struck_code, works, spot) for spot in scene.live_at(at)])
+    return (works.done, at, works.taken, band.right, values)
+
+
 def led_alone(scene, band):
     """The fate of the runs of a band without columns."""
     works = band.works
-    while works.done < scene.limit:
+    passed = []
+    fate = None
+    while fate is None and works.done < scene.limit:
         before = works.heads[0]
         do_step(works)
         if works.word == "caught":
-            return caught_end(scene, band.right, works.done)
-        if works.shown:
-            if works.word == "stopped":
-                return stopped_end(scene, band.right)
-            if not is_right_item(scene, band.right, works.shown[0]):
-                return WRONG
+            fate = caught_end(scene, band.right, works.done)
+        elif works.word == "stopped":
+            fate = stopped_end(scene, band.right)
+        elif works.shown and not is_right_item(scene, band.right, works.shown[0]):
+            fate = WRONG
+        elif works.shown:
             works.shown = []
             band.right = one_more(scene, band.right)
-        # Whatever goes round goes back somewhere.
-        if works.heads[0] <= before and is_round(band):
-            break
-    return running_end(scene, band.right)
+        elif works.heads[0] != before + 1:
+            # Whatever goes round, and most of what comes to be alike, does so where it goes elsewhere.
+            key = key_of(scene, band)
+            fate = scene.fates.get(key)
+            passed.append(key)
+            if fate is None and is_round(band):
+                fate = running_end(scene, band.right)
+    if fate is None:
+        fate = running_end(scene, band.right)
+    scene.fates.update({key: fate for key in passed})
+    return fate
 
 
 def column_of(scene, band, spot):

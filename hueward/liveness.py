@@ -16,6 +16,11 @@ def bits_of(spots):
     return found
 
 
+def spots_in(bits):
+    """The ascending list of the spots whose bits a whole has."""
+    return [spot for spot in range(bits.bit_length()) if bits >> spot & 1]
+
+
 def row_bits(code, cell):
     """What an instruction may need, and what it surely sets."""
     first = cell[0] * each_of(code)

@@ -1,6 +1,6 @@
 """Unstruck runs, with all that single strikes on them are laid beside."""
 
-from hueward.liveness import live_spots
+from hueward.liveness import live_spots, spots_in
 from hueward.machine import is_unanimous
 from hueward.markplaces import is_full
 from hueward.spots import used_by
@@ -14,13 +14,16 @@ class Scene:
     """The unstruck run of a code: its row, state and count of steps, and its works ahead of each step.
 
     It bears one if no strike of a single hue changes what it shows, since
-    enough other hues always agree.
+    enough other hues always agree. It keeps the fates of struck runs, too, by
+    what they came by.
     """
 
     def __init__(self, code, inputs, steps):
         self.struck_code = code
         self.limit = steps
         self.live = live_spots(code)
+        self.live_lists = {}
+        self.fates = {}
         works = Works(code, inputs, ())
         self.saved = []
         self.bears_one = is_full(code) and code[0][-1] < len(code[0])
@@ -47,6 +50,12 @@ class Scene:
                 self.near.append(twin_of(works))
                 do_step(works)
         return self.near[step - self.near_first]
+
+    def live_at(self, address):
+        """The list of the spots that may still be needed at an address."""
+        if address not in self.live_lists:
+            self.live_lists[address] = spots_in(self.live[address])
+        return self.live_lists[address]
 
     def used_at(self, step):
         """What a step uses: a dict from spots to words, without the pointers."""
