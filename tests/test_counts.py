@@ -204,6 +204,14 @@ class BesideEach(unittest.TestCase):
         self.check_cells((0, "plus", 1, 0, 2), (0, "put", 5, 6, 0, 2), (0, "plus", 4, 0, 1), (0, "offer", 4),
                          ("show", 0, 1), ("stop",), bank=(3, 4), steps=20)
 
+    def test_pointers_that_lead_to_one_address(self):
+        """Runs that come to one address in one step differ in the slot, a register or a bank cell alone."""
+        self.check_cells((0, "set", 0, 1), (0, "offer", 0), ("goto", 4), ("stop",), ("show", 0, 1), ("stop",), steps=20)
+        self.check_cells((0, "set", 0, 1), (0, "set", 1, 2), ("goto", 4), ("stop",), (0, "plus", 0, 0, 1),
+                         (0, "offer", 0), ("show", 0, 1), ("stop",), steps=20)
+        self.check_cells((0, "set", 0, 1), (0, "put", 0, 1, 0, 1), (0, "set", 0, 5), ("goto", 5), ("stop",),
+                         (0, "get", 0, 1, 0, 1), (0, "offer", 0), ("show", 0, 1), ("stop",), bank=(3,), steps=20)
+
     def test_caught_at_the_fetch(self):
         for votes in ((1,), (1, 2), (1, 2, 2)):
             hues = range(len(votes))
